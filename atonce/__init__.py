@@ -1,0 +1,1 @@
+"""Atonce: orders given at once on a map of places."""
