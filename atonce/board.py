@@ -24,10 +24,13 @@ class Board:
         self.chart.need_place(at)
         return self.units.get(at)
 
-    def lift(self, at):
-        self.chart.need_place(at)
-        if at not in self.units:
+    # The orders ask this too: where a unit stands is the board's to say.
+    def need_unit(self, at):
+        if self.side_at(at) is None:
             raise NoUnit(f"no unit stands in place {at}")
+
+    def lift(self, at):
+        self.need_unit(at)
         self.units.pop(at)
 
     def roll(self):

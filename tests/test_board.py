@@ -3,17 +3,10 @@
 from atonce.board import Board
 from atonce.errors import Crowded, NoPlace, NoSide, NoUnit
 from atonce.maps import Map
-from tests.helper import RefusalCase, no_places
+from tests.helper import RefusalCase, no_places, posted
 
 SIZES = (1, 2, 5, 60)
 NO_SIDES = (-1, -2, -8, 8, 9, 60, 10 ** 12)
-
-
-def posted(size, units):
-    board = Board(Map(size))
-    for at, side in units:
-        board.post(at, side)
-    return board
 
 
 class BoardCase(RefusalCase):

@@ -2,33 +2,9 @@
 
 from atonce.errors import NoPlace, OutOfReach
 from atonce.maps import Map
-from tests.helper import RefusalCase, no_places
-
-
-def line(size):
-    return [(at, at + 1) for at in range(size - 1)]
-
-
-def star(size):
-    return [(size - 1, at) for at in range(size - 2, -1, -1)]
-
-
-def whole(size):
-    return [(b, a) for a in range(size) for b in range(a + 1, size)]
-
-
-def leaps(size):
-    return [(at, at * 7 % size) for at in range(size - 1, -1, -1) if at != at * 7 % size]
-
+from tests.helper import RefusalCase, leaps, line, linked, no_places, star, whole
 
 SHAPES = (line, star, whole, leaps)
-
-
-def linked(size, pairs):
-    chart = Map(size)
-    for a, b in pairs:
-        chart.link(a, b)
-    return chart
 
 
 class MapCase(RefusalCase):
